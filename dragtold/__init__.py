@@ -1,0 +1,1 @@
+"""Dragtold: listeners of drag events that are right in every history."""
