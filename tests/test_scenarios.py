@@ -242,6 +242,10 @@ class IsScenarioTest(unittest.TestCase):
                          [(0, 0, 0, 4, 0), (3, 4, 1, 2, 0)], [(0, 0, 0, 4, 0), (0, 0, 0, 2, 0)]):
             self.assertIs(self.is_one(scenario, TROUBLES), False, scenario)
 
+    def test_no_rows_of_turns(self):
+        for scenario in (None, 0, (), ((0, 0, 0, 2, 0),), "", {(0, 0, 0, 2, 0): True}):
+            self.assertIs(self.is_one(scenario, TROUBLES), False, scenario)
+
     def test_no_turns(self):
         for turn in ((), (0, 0, 0, 2), (0, 0, 0, 2, 0, 0), [0, 0, 0, 2, 0], (False, 0, 0, 2, 0), (0, 0, 0, 2, False),
                      (0, 0, False, 2, 0), (0, 0, 0, "2", 0), (0, 0, None, 2, 0), None, 0, "00020"):

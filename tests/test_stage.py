@@ -85,7 +85,7 @@ class PageTest(unittest.TestCase):
                  ("point", 0, True), ("point", 0, None), ("slip", 0), ("out",), ("out", 8), ("out", False),
                  ("out", 0, 0), ("drop", 0), ("drop", 0, 0), ("drop", 1, 0), ("drop", None, 0), ("drop", True, 8),
                  ("drop", True, False), ("cancel", True), ("cancel", 1, 0), ("cancel", False, -1), ["add", 0],
-                 "add", None, 0]
+                 "add", None, 0, ([], 0), ({}, 0, 0), ("add", []), ("point", [0], 0), ("point", 0, [0])]
         for step in wrong:
             stage = stage_with(PAGE)
             self.assertEqual(refusal(stage.act, step), "not possible", step)
