@@ -35,11 +35,19 @@ NEW_ELEMENT = 4
 def turns(situation, troubles):
     """The list of the turns that are possible in a situation, ascending."""
     found = []
-    for over, last in drifted(situation, troubles):
-        for tick, target in ticks_at(over, last, troubles):
-            for stops in range(stops_bound(troubles)):
-                found.append((over, last, tick, target, stops))
+    for situation_now in drifted(situation, troubles):
+        found.extend(turns_at(situation_now, troubles))
     return sorted(found)
+
+
+def turns_at(situation, troubles):
+    """The turns that are possible in a situation without changes ahead, in any order."""
+    over, last = situation
+    return [
+        (over, last, tick, target, stops)
+        for tick, target in ticks_at(over, last, troubles)
+        for stops in range(stops_bound(troubles))
+    ]
 
 
 def drifted(situation, troubles):
@@ -156,6 +164,23 @@ def sides_in(turn):
 
 def number_of_side(sides, element):
     return 0 if element is None else SIDE_NAMES.index(sides[element])
+
+
+def behind_all(setup, scenario):
+    """The tuple (situation, signals) behind a scenario: all that is heard in it."""
+    situation, heard_so_far = FIRST_SITUATION, []
+    for turn in scenario:
+        situation, signals = behind(setup, situation, turn)
+        heard_so_far.extend(signals)
+    return situation, tuple(heard_so_far)
+
+
+def is_hovered_in(situation):
+    return situation[0] in (2, 3)
+
+
+def is_situation(over, last):
+    return over in range(4) and last in range(5) and (over, last) not in ((0, CURRENT), (3, 3))
 
 
 def is_scenario(setup, scenario, troubles):

@@ -131,11 +131,15 @@ def next_state(listener, state, signal):
 
 
 def applies(rule, state, signal):
-    source, kind, side, same, related, _ = rule
+    return (rule[0] is None or rule[0] == state) and takes_signal(rule, signal)
+
+
+def takes_signal(rule, signal):
+    """Whether a rule applies to a signal in the states from which it leads."""
+    _, kind, side, same, related, _ = rule
     heard_kind, heard_side, heard_same, heard_related = signal
     return (
-        (source is None or source == state)
-        and (kind is None or kind == heard_kind)
+        (kind is None or kind == heard_kind)
         and (side is None or side == heard_side)
         and (same is None or same == heard_same)
         and (related is None or related == heard_related)

@@ -1,6 +1,7 @@
 """Some rules of the language that a careless change breaks first."""
 
 import ast
+import builtins
 import re
 import unittest
 from pathlib import Path
@@ -44,6 +45,37 @@ class LanguageTest(unittest.TestCase):
                     for alias in node.names:
                         pattern = rf"^(def {alias.name}\(|class {alias.name}[(:]|{alias.name} = )"
                         self.assertRegex(defined, re.compile(pattern, re.MULTILINE))
+
+    def test_local_names_are_not_those_of_imports_classes_and_builtins(self):
+        for path in package_files():
+            tree = ast.parse(path.read_text())
+            taken = set(dir(builtins))
+            for node in tree.body:
+                if isinstance(node, ast.ImportFrom):
+                    taken.update(alias.name for alias in node.names)
+                elif isinstance(node, ast.ClassDef):
+                    taken.add(node.name)
+            for node in ast.walk(tree):
+                if isinstance(node, ast.Name) and isinstance(node.ctx, ast.Store):
+                    self.assertNotIn(node.id, taken, path.name)
+                elif isinstance(node, ast.arg):
+                    self.assertNotIn(node.arg, taken, path.name)
+
+    def test_dicts_of_modules_are_only_asked(self):
+        """Lists and dicts at module level are indexed, or stand behind in; tuples are free."""
+        for path in package_files():
+            tree = ast.parse(path.read_text())
+            tables = {node.targets[0].id for node in tree.body
+                      if isinstance(node, ast.Assign) and isinstance(node.value, (ast.Dict, ast.List))}
+            asked = set()
+            for node in ast.walk(tree):
+                if isinstance(node, ast.Subscript):
+                    asked.add(id(node.value))
+                elif isinstance(node, ast.Compare):
+                    asked.update(id(each) for each in node.comparators)
+            for node in ast.walk(tree):
+                if isinstance(node, ast.Name) and isinstance(node.ctx, ast.Load) and node.id in tables:
+                    self.assertIn(id(node), asked, (path.name, node.id))
 
     def test_no_floats_no_decorators_of_functions_and_no_barred_names(self):
         for path in package_files():

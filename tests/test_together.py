@@ -8,7 +8,8 @@ from dragtold.scenarios import behind, enact, is_scenario, turns
 from dragtold.setups import Setup, next_state, sample
 from dragtold.stage import Stage, play
 from tests.browser import Browser
-from tests.helpers import KINDS, SIGHTS, TROUBLES, all_setups, deaf_listener, hears_all, ways_to_situations
+from tests.helpers import (
+    KINDS, SIGHTS, TROUBLES, all_setups, deaf_listener, hears_all, random_scenario, random_step, ways_to_situations)
 
 SAMPLES = ("simple", "counting", "latest", "over", "related")
 
@@ -50,32 +51,14 @@ class EnactedTest(unittest.TestCase):
         random = Random(14)
         for setup in all_setups():
             troubles = [trouble for trouble in TROUBLES if random.random() < 0.7]
-            scenario, situation = [], (0, 0)
-            for _ in range(12):
-                scenario.append(random.choice(turns(situation, troubles)))
-                situation, _ = behind(setup, situation, scenario[-1])
+            scenario = random_scenario(random, setup, troubles, 12)
             self.assertIs(is_scenario(setup, scenario, troubles), True)
             self.check(setup, scenario, sample(random.choice(SAMPLES)))
 
     def test_sixty_turns(self):
         random = Random(60)
         for setup in (hears_all("zone"), hears_all("root"), hears_all("capture")):
-            scenario, situation = [], (0, 0)
-            for _ in range(60):
-                scenario.append(random.choice(turns(situation, TROUBLES)))
-                situation, _ = behind(setup, situation, scenario[-1])
-            self.check(setup, scenario, sample("latest"))
-
-
-def random_step(random, many):
-    """Some step, perhaps not a possible one; many is the number of elements so far."""
-    element, parent = random.randrange(many), random.randrange(many)
-    stops = random.choice((0, 0, random.randrange(8)))
-    told = random.random() < 0.5
-    return random.choice((
-        ("add", parent), ("remove", element), ("place", element, parent), ("place", element, random.randrange(2)),
-        ("point", element, stops), ("point", element, stops), ("point", parent, stops), ("slip", element, stops),
-        ("slip", element, stops), ("out", stops), ("drop", told, stops), ("cancel", told, stops)))
+            self.check(setup, random_scenario(random, setup, TROUBLES, 60), sample("latest"))
 
 
 def random_walk(random, setup, length, taken):
