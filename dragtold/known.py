@@ -24,7 +24,8 @@ def known_behind(ways, known):
         for _, behind, signals in ways.outcomes(situation):
             if signals:
                 triples = heard.setdefault(signals[0], {})
-                triples[(*behind, signals[1:])] = True
+                triple = (*behind, signals[1:])
+                triples[triple] = True
     return {signal: settled(ways, heard[signal]) for signal in sorted(heard, key=rank_of)}
 
 
